@@ -1,0 +1,1 @@
+"""Driftmeet: hands with clocks, and what each knows of the time."""

@@ -1,0 +1,123 @@
+"""The form of the package's files: what of LANGUAGE.md can be seen in a file by itself."""
+
+import ast
+import builtins
+import pathlib
+import re
+import unittest
+
+PACKAGE = pathlib.Path(__file__).resolve().parent.parent / "driftmeet"
+FILES = sorted(path for path in PACKAGE.rglob("*") if path.is_file() and "__pycache__" not in path.parts)
+
+# L6, L7, L20 to L25, by the names of Python's own tree of a program.
+NODES = """
+Module ImportFrom alias FunctionDef arguments arg ClassDef Assign AugAssign Name Load Store Attribute Subscript Slice
+If While For Return Break Continue Pass Raise Try ExceptHandler Expr Call keyword Constant List Tuple Dict Set
+UnaryOp USub UAdd Not Invert BinOp Add Sub Mult FloorDiv Mod Pow BitAnd BitOr BitXor LShift RShift
+Compare Eq NotEq Lt LtE Gt GtE Is IsNot In NotIn BoolOp And Or IfExp ListComp comprehension Lambda
+JoinedStr FormattedValue
+""".split()
+BUILT_IN = """
+len range enumerate zip min max sum abs sorted reversed int str bool list tuple dict set frozenset isinstance ord
+repr any all divmod Exception ValueError TypeError KeyError IndexError LookupError ZeroDivisionError ArithmeticError
+OverflowError RuntimeError NotImplementedError AttributeError StopIteration
+""".split()
+METHODS = """
+append clear copy count endswith extend find get index insert isalnum isalpha isdigit islower isspace isupper items
+join keys ljust lower lstrip partition pop remove replace reverse rfind rjust rpartition rsplit rstrip setdefault split
+splitlines startswith strip update upper values zfill bit_length title add discard __init__
+""".split()
+WORDS = """
+type typing typing_extensions enum Enum IntEnum StrEnum Flag IntFlag Generic Protocol ABC ABCMeta namedtuple NamedTuple
+TypedDict TYPE_CHECKING abstractmethod
+""".split()
+DOUBLE = ["__init__", "__eq__", "__repr__", "__str__", "__len__"]
+OWN_TO_PYTHON = {name for one in (str, int, list, dict, set, bytes, tuple) for name in dir(one)}
+
+
+def lines_of(node):
+    return node.end_lineno - node.lineno + 1
+
+
+def bound_names(tree):
+    """All names that a file gives: (name, line)."""
+    for node in ast.walk(tree):
+        if isinstance(node, (ast.FunctionDef, ast.ClassDef)):
+            yield node.name, node.lineno
+        elif isinstance(node, ast.arg):
+            yield node.arg, node.lineno
+        elif isinstance(node, ast.Name) and isinstance(node.ctx, ast.Store):
+            yield node.id, node.lineno
+        elif isinstance(node, ast.Attribute) and isinstance(node.ctx, ast.Store):
+            yield node.attr, node.lineno
+
+
+class Form(unittest.TestCase):
+    def each(self):
+        for path in FILES:
+            text = path.read_text(encoding="utf-8")
+            yield path, text, ast.parse(text)
+
+    def test_files(self):
+        self.assertIn(PACKAGE / "__init__.py", FILES)
+        for path in FILES:
+            self.assertRegex(path.name, r"\A(__init__|__main__|[a-z][a-z0-9_]*)\.py\Z", path)
+
+    def test_signs_and_sizes(self):
+        for path, text, tree in self.each():
+            self.assertRegex(text, r"\A[ -~\n]*\Z", path)
+            rows = text.split("\n")
+            self.assertLessEqual(len(rows), 401, path)
+            for number, row in enumerate(rows, start=1):
+                self.assertLessEqual(len(row), 120, (path, number))
+            for node in ast.walk(tree):
+                if isinstance(node, ast.FunctionDef):
+                    self.assertLessEqual(lines_of(node), 40, (path, node.name))
+
+    def test_words(self):
+        for path, text, _ in self.each():
+            for word in WORDS:
+                self.assertIsNone(re.search(rf"\b{word}\b", text), (path, word))
+            for part in ("dataclass", "overload", "contextmanager"):
+                self.assertNotIn(part, text, path)
+
+    def test_imports(self):
+        for path, _, tree in self.each():
+            inner = [node for node in ast.walk(tree) if isinstance(node, ast.ImportFrom)]
+            for node in inner:
+                self.assertIn(node, tree.body, (path, node.lineno))
+                self.assertEqual(node.level, 0, (path, node.lineno))
+                self.assertRegex(node.module, r"\Adriftmeet\.[a-z0-9_]+\Z", (path, node.lineno))
+                self.assertNotIn("*", [alias.name for alias in node.names], (path, node.lineno))
+
+    def test_parts_of_the_language(self):
+        for path, _, tree in self.each():
+            for node in ast.walk(tree):
+                self.assertIn(node.__class__.__name__, NODES, (path, getattr(node, "lineno", 0)))
+                if isinstance(node, ast.Constant):
+                    self.assertNotIsInstance(node.value, (float, complex, bytes), (path, node.lineno))
+                if isinstance(node, (ast.FunctionDef, ast.ClassDef)):
+                    self.assertEqual(node.decorator_list, [], (path, node.lineno))
+                if isinstance(node, (ast.For, ast.While)):
+                    self.assertEqual(node.orelse, [], (path, node.lineno))
+                if isinstance(node, ast.Try):
+                    self.assertEqual(node.finalbody, [], (path, node.lineno))
+                if isinstance(node, ast.Assign):
+                    self.assertEqual(len(node.targets), 1, (path, node.lineno))
+
+    def test_names(self):
+        for path, _, tree in self.each():
+            for name, line in bound_names(tree):
+                self.assertTrue(name in DOUBLE or re.fullmatch(r"[A-Za-z][A-Za-z0-9_]*", name), (path, line, name))
+            for node in ast.walk(tree):
+                if isinstance(node, ast.Name) and hasattr(builtins, node.id):
+                    self.assertIn(node.id, BUILT_IN, (path, node.lineno))
+                    self.assertIsInstance(node.ctx, ast.Load, (path, node.lineno))
+                if isinstance(node, ast.arg):
+                    self.assertFalse(hasattr(builtins, node.arg), (path, node.lineno, node.arg))
+                if isinstance(node, ast.Attribute) and node.attr in OWN_TO_PYTHON:
+                    self.assertIn(node.attr, METHODS, (path, node.lineno))
+
+
+if __name__ == "__main__":
+    unittest.main()
