@@ -1,4 +1,4 @@
-"""The form of the package's files: what of LANGUAGE.md can be seen in a file by itself."""
+"""The form of the package's files: the part of LANGUAGE.md that is easily seen, not all of it."""
 
 import ast
 import builtins
@@ -9,7 +9,7 @@ import unittest
 PACKAGE = pathlib.Path(__file__).resolve().parent.parent / "driftmeet"
 FILES = sorted(path for path in PACKAGE.rglob("*") if path.is_file() and "__pycache__" not in path.parts)
 
-# L6, L7, L20 to L25, by the names of Python's own tree of a program.
+# The statements and expressions of L6 and L7, by the names of Python's own tree of a program.
 NODES = """
 Module ImportFrom alias FunctionDef arguments arg ClassDef Assign AugAssign Name Load Store Attribute Subscript Slice
 If While For Return Break Continue Pass Raise Try ExceptHandler Expr Call keyword Constant List Tuple Dict Set
