@@ -1,0 +1,104 @@
+"""What several test files need: a case that looks at refusals, and worlds, logs and edges made by a told seed."""
+
+import random
+import unittest
+
+from driftmeet.errors import DriftError
+from driftmeet.worlds import World
+
+MANY = 10 ** 199 + 7
+
+
+class Case(unittest.TestCase):
+    def refused(self, kind, ask, *given):
+        """Just this refusal comes back, not one of another class; it is handed on for a look at its fields."""
+        with self.assertRaises(DriftError) as told:
+            ask(*given)
+        self.assertIs(type(told.exception), kind)
+        return told.exception
+
+
+def chance(seed):
+    return random.Random(seed)
+
+
+def some_world(luck, hands):
+    clocks = []
+    for _ in range(hands):
+        short = luck.randint(1, 4)
+        clocks.append((short, short + luck.choice([0, 0, 1, 3])))
+    ways = []
+    for one in range(hands):
+        for other in range(hands):
+            if one != other and luck.random() < 0.8:
+                least = luck.randint(0, 5)
+                ways.append((one, other, least, luck.choice([None, least, least + 1, least + 6])))
+    return World(clocks, ways)
+
+
+def leads(world, one, other):
+    try:
+        world.way(one, other)
+    except DriftError:
+        return False
+    return True
+
+
+def some_row(luck, world, hand, reading, waiting):
+    """A row without a fault for this hand; waiting holds the letters that were not taken yet, (letter, to)."""
+    aims = [other for other in range(world.hands()) if other != hand and leads(world, hand, other)]
+    mine = [letter for letter, to in waiting if to == hand]
+    kind = luck.choice(["look", "sight", "send", "take", "send", "take"])
+    if kind == "send" and aims:
+        return ("send", hand, reading, luck.choice(aims))
+    if kind == "take" and mine:
+        return ("take", hand, reading, luck.choice(mine))
+    if kind == "sight":
+        early = luck.randint(-10, 60)
+        return ("sight", hand, reading, early, early + luck.randint(0, 40))
+    return ("look", hand, reading)
+
+
+def some_log(luck, world, length):
+    """A log without a fault; whether it has a history is open."""
+    log, waiting = [], []
+    readings = [luck.randint(-3, 3) for _ in range(world.hands())]
+    counts = [0] * world.hands()
+    for _ in range(length):
+        hand = luck.randrange(world.hands())
+        readings[hand] += luck.choice([0, 1, 1, 2, 5])
+        row = some_row(luck, world, hand, readings[hand], waiting)
+        log.append(row)
+        if row[0] == "send":
+            waiting.append(((hand, counts[hand]), row[3]))
+        if row[0] == "take":
+            waiting = [(letter, to) for letter, to in waiting if letter != row[3]]
+        counts[hand] += 1
+    return log
+
+
+def some_bounds(luck, number, many, size=9):
+    """Bounds (x, y, m) that some times keep all together, some of them just so: rings of nought are among them."""
+    some = [(n // 4, n % 4) for n in range(number)]
+    hidden = {x: luck.randint(-size, size) for x in some}
+    told = []
+    for _ in range(many):
+        x, y = luck.choice(some), luck.choice(some)
+        told.append((x, y, hidden[y] - hidden[x] + luck.choice([0, 0, 1, luck.randint(0, size)])))
+    return some, told
+
+
+def least_sums(some, told):
+    """By the words of point 23: {(x, y): least sum}, where a way leads. Each middle name is tried in its turn."""
+    sums = {}
+    for x, y, m in told:
+        sums[(x, y)] = min(m, sums.get((x, y), m))
+    for x in some:
+        sums[(x, x)] = min(0, sums.get((x, x), 0))
+    for middle in some:
+        for x in some:
+            for y in some:
+                if (x, middle) in sums and (middle, y) in sums:
+                    total = sums[(x, middle)] + sums[(middle, y)]
+                    sums[(x, y)] = min(total, sums.get((x, y), total))
+    return sums
