@@ -1,4 +1,4 @@
-"""What several test files need: a case that looks at refusals, and worlds, logs and edges made by a told seed."""
+"""What several test files need: a case that looks at refusals, and worlds, logs and bounds made by a told seed."""
 
 import random
 import unittest
@@ -75,6 +75,47 @@ def some_log(luck, world, length):
             waiting = [(letter, to) for letter, to in waiting if letter != row[3]]
         counts[hand] += 1
     return log
+
+
+def taken_at(luck, world, hand, last, letter, sent):
+    """(reading, time) at which the hand could take the letter by its clock and by the way, or None."""
+    least, most = world.way(letter[0], hand)
+    short, long = world.clock(hand)
+    for ticks in luck.sample(range(40), 40):
+        early = max(sent + least, last[1] + short * ticks)
+        late = last[1] + long * ticks if most is None else min(sent + most, last[1] + long * ticks)
+        if early <= late:
+            return last[0] + ticks, luck.randint(early, late)
+    return None
+
+
+def lived_log(luck, world, length):
+    """A log without a fault, and the true times by which it came about: so it has a history."""
+    log, times, waiting = [], [], []
+    last = [(luck.randint(-9, 9), luck.randint(-9, 9)) for _ in range(world.hands())]
+    counts = [0] * world.hands()
+    for _ in range(length):
+        hand = luck.randrange(world.hands())
+        row = some_row(luck, world, hand, 0, [(letter, to) for letter, to, _ in waiting])
+        ticks = luck.choice([0, 1, 1, 2, 5])
+        short, long = world.clock(hand)
+        when = last[hand][0] + ticks, last[hand][1] + luck.randint(short * ticks, long * ticks)
+        if row[0] == "take":
+            sent = [time for letter, _, time in waiting if letter == row[3]][0]
+            could = taken_at(luck, world, hand, last[hand], row[3], sent)
+            row, when = (row, could) if could else (("look", hand, 0), when)
+        row = row[:2] + when[:1] + row[3:]
+        if row[0] == "sight":
+            row = row[:3] + (when[1] - luck.randint(0, 9), when[1] + luck.randint(0, 9))
+        if row[0] == "send":
+            waiting.append(((hand, counts[hand]), row[3], when[1]))
+        if row[0] == "take":
+            waiting = [one for one in waiting if one[0] != row[3]]
+        log.append(row)
+        times.append(when[1])
+        last[hand] = when
+        counts[hand] += 1
+    return log, times
 
 
 def some_bounds(luck, number, many, size=9):

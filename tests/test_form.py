@@ -55,7 +55,8 @@ def bound_names(tree):
 
 
 def imported(tree):
-    return [alias.asname or alias.name for node in tree.body if isinstance(node, ast.ImportFrom) for alias in node.names]
+    rows = [node for node in tree.body if isinstance(node, ast.ImportFrom)]
+    return [alias.asname or alias.name for node in rows for alias in node.names]
 
 
 def top_names(node):

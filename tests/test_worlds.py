@@ -69,7 +69,8 @@ class Making(Case):
                 self.refused(NoClock, World, [GOOD, (2, 1)], [way])
 
     def test_hands_of_ways(self):
-        for way in ((0, 3, 1, 2), (3, 0, 1, 2), (-1, 0, 1, 2), (0, -1, 1, 2), (-3, 0, 1, 2), (1, 1, 1, 2), (5, 5, 1, 2)):
+        for pair in ((0, 3), (3, 0), (-1, 0), (0, -1), (-3, 0), (1, 1), (5, 5)):
+            way = pair + (1, 2)
             with self.subTest(way):
                 self.refused(NoHand, World, [GOOD] * 3, [way])
                 self.refused(NoHand, World, [GOOD] * 3, [(0, 1, 1, 2), way])
