@@ -18,6 +18,10 @@ def net_of(world, log):
     return net
 
 
-def history(world, log):
-    times = net_of(world, log).times()
+def as_history(log, times):
+    """Times of the log's net as a list in the log's order, moved together so that NOUGHT comes at 0."""
     return [times[name] - times[NOUGHT] for name in names(log)]
+
+
+def history(world, log):
+    return as_history(log, net_of(world, log).times())

@@ -70,6 +70,17 @@ def place(log, name):
     raise NoName("no happening of the log has this name")
 
 
+def last_of(log, hand):
+    """The name of the hand's last happening, or None where it has none."""
+    mine = [name for name in names(log) if name[0] == hand]
+    return mine[-1] if len(mine) > 0 else None
+
+
+def last_reading(log, hand):
+    # A hand's readings never fall, so its greatest one is its last happening's.
+    return max([row[2] for row in log if row[1] == hand], default=None)
+
+
 def count_letter(counts, one):
     """A take that is past brings the send of its letter into the past."""
     if isinstance(one, Take):

@@ -1,12 +1,17 @@
-"""What several test files need: a case that looks at refusals, and worlds, logs and bounds made by a told seed."""
+"""What several test files need: a case that looks at what is told, and worlds, logs and bounds made by a told seed."""
 
+import itertools
 import random
 import unittest
 
+from driftmeet.bounds import bounds, broken
 from driftmeet.errors import DriftError
+from driftmeet.happenings import NOUGHT
+from driftmeet.logs import names
 from driftmeet.worlds import World
 
 MANY = 10 ** 199 + 7
+SIXTY = 10 ** 59 + 3
 
 
 class Case(unittest.TestCase):
@@ -16,6 +21,24 @@ class Case(unittest.TestCase):
             ask(*given)
         self.assertIs(type(told.exception), kind)
         return told.exception
+
+    def is_history(self, world, log, times):
+        self.assertIs(type(times), list)
+        self.assertEqual(len(times), len(log))
+        for time in times:
+            self.assertIs(type(time), int)
+        self.assertEqual(broken(world, log, times), [])
+
+    def goes_round(self, world, log, ring):
+        """By bounds of the log from each name to the next one and from the last to the first, with a sum below 0."""
+        self.assertIs(type(ring), list)
+        least = {}
+        for x, y, m in bounds(world, log):
+            least[(x, y)] = min(m, least.get((x, y), m))
+        pairs = list(zip(ring, ring[1:] + ring[:1]))
+        for pair in pairs:
+            self.assertIn(pair, least)
+        self.assertLess(sum(least[pair] for pair in pairs), 0)
 
 
 def chance(seed):
@@ -143,3 +166,38 @@ def least_sums(some, told):
                     total = sums[(x, middle)] + sums[(middle, y)]
                     sums[(x, y)] = min(total, sums.get((x, y), total))
     return sums
+
+
+def log_sums(world, log):
+    """{(x, y): least sum} by the bounds of the log."""
+    return least_sums([NOUGHT] + names(log), bounds(world, log))
+
+
+def has_history(world, log):
+    """A way back to its own beginning with a sum below nought leaves no history."""
+    sums = log_sums(world, log)
+    return all(sums[(x, x)] == 0 for x in [NOUGHT] + names(log))
+
+
+def by_sums(sums, x, y):
+    """The stretch of point 33, by {(x, y): least sum}."""
+    back = sums.get((y, x))
+    return (None if back is None else -back, sums.get((x, y)))
+
+
+def time_of(log, times, name):
+    return dict(zip([NOUGHT] + names(log), [0] + times))[name]
+
+
+def small_logs():
+    """(world, log, all its histories) by trying all times that could be: small logs with a history and without."""
+    world = World([(1, 2), (1, 1)], [(0, 1, 1, 2)])
+    for early, late, ticks in itertools.product(range(-1, 4), range(-1, 4), range(3)):
+        log = [("sight", 0, 0, 0, 1), ("send", 0, ticks, 1), ("take", 1, 0, (0, 1))]
+        if early <= late:
+            log.append(("sight", 1, 1, early, late))
+        places = {name: where for where, name in enumerate([NOUGHT] + names(log))}
+        told = [(places[x], places[y], m) for x, y, m in bounds(world, log)]
+        tried = [(0,) + times for times in itertools.product(range(9), repeat=len(log))]
+        found = [times for times in tried if all(times[y] - times[x] <= m for x, y, m in told)]
+        yield world, log, [list(times[1:]) for times in found]

@@ -1,9 +1,8 @@
 """The net of a log and its histories (points 31 and 32)."""
 
-import itertools
 import unittest
 
-from helper import MANY, Case, chance, least_sums, lived_log, some_log, some_world
+from helper import MANY, Case, chance, has_history, lived_log, small_logs, some_log, some_world
 
 from driftmeet.bounds import bounds, broken
 from driftmeet.errors import Ring
@@ -22,13 +21,6 @@ LOG = [
 SOON = [("send", 1, 0, 0), ("take", 0, 0, (1, 0)), ("send", 0, 0, 1), ("take", 1, 1, (0, 1))]
 
 
-def has_history(world, log):
-    """By least sums over each middle name: a way back to its own beginning below nought leaves no history."""
-    some = [NOUGHT] + names(log)
-    sums = least_sums(some, bounds(world, log))
-    return all(sums[(x, x)] == 0 for x in some)
-
-
 class HistoryCase(Case):
     def net_is_right(self, world, log):
         net = net_of(world, log)
@@ -40,24 +32,11 @@ class HistoryCase(Case):
         self.assertEqual(net.edges(), edges)
 
     def history_is_right(self, world, log):
-        times = history(world, log)
-        self.assertIs(type(times), list)
-        self.assertEqual(len(times), len(log))
-        for time in times:
-            self.assertIs(type(time), int)
-        self.assertEqual(broken(world, log, times), [])
+        self.is_history(world, log, history(world, log))
 
     def ring_is_right(self, world, log):
         for ask in (net_of, history):
-            ring = self.refused(Ring, ask, world, log).ring
-            self.assertIs(type(ring), list)
-            least = {}
-            for x, y, m in bounds(world, log):
-                least[(x, y)] = min(m, least.get((x, y), m))
-            pairs = list(zip(ring, ring[1:] + ring[:1]))
-            for pair in pairs:
-                self.assertIn(pair, least)
-            self.assertLess(sum(least[pair] for pair in pairs), 0)
+            self.goes_round(world, log, self.refused(Ring, ask, world, log).ring)
 
 
 class With(HistoryCase):
@@ -162,14 +141,8 @@ class JustWhere(HistoryCase):
         self.assertGreater(min(found.values()), 10)
 
     def test_small_ones_by_trying_all_times(self):
-        world = World([(1, 2), (1, 1)], [(0, 1, 1, 2)])
-        for early, late, ticks in itertools.product(range(-1, 4), range(-1, 4), range(3)):
-            log = [("sight", 0, 0, 0, 1), ("send", 0, ticks, 1), ("take", 1, 0, (0, 1))]
-            if early <= late:
-                log.append(("sight", 1, 1, early, late))
-            tried = itertools.product(range(8), repeat=len(log))
-            found = any(broken(world, log, list(times)) == [] for times in tried)
-            self.assertIs(found, has_history(world, log))
+        for world, log, found in small_logs():
+            self.assertIs(found != [], has_history(world, log))
             self.decide(world, log)
 
 
