@@ -30,6 +30,13 @@ FUNCTIONS = {
         "stretch_at(world, log, hand, reading)", "first_sure(world, log, hand, time)",
         "last_sure(world, log, hand, time)", "date(world, log, x)", "is_out(world, log, x, y)",
     ],
+    "leases": ["holds(world, log, lease, y)", "hold_till(world, log, lease)", "doubt(world, log, lease, y)"],
+    "texts": [
+        "show_number(number)", "show_name(name)", "show_stretch(one)", "show_list(numbers)", "show_names(some)",
+        "show_row(row)", "show_log(log)", "show_world(world)", "read_number(text)", "read_name(text)",
+        "read_stretch(text)", "read_list(text)", "read_names(text)", "read_row(text)", "read_log(text)",
+        "read_world(text)",
+    ],
 }
 CLASSES = {
     ("worlds", "World(clocks, ways)"): ["hands()", "clock(hand)", "way(one, other)"],
@@ -45,6 +52,9 @@ CLASSES = {
     ("meeting", "Meeting(world)"): [
         "tell(row)", "log()", "heard(hand)", "news(hand, letter)", "when(hand)", "between(hand, x, y)",
     ],
+    ("leases", "Shelf()"): ["grant(thing, reading, until)", "free_from(thing)", "lets(reading)"],
+    ("shown", "Shown(clock, crawl, dash, reading, shown)"): ["put(reading, one)", "show(reading)", "right_by()"],
+    ("desk", "Desk()"): ["say(row)"],
 }
 
 
